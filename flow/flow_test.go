@@ -1,7 +1,6 @@
 package flow_test
 
 import (
-	"slices"
 	"strconv"
 	"strings"
 	"testing"
@@ -9,6 +8,7 @@ import (
 	"shuttlecock/api"
 	"shuttlecock/diag"
 	"shuttlecock/flow"
+	"shuttlecock/sketch"
 )
 
 // The calls have the signatures of the document.
@@ -24,107 +24,6 @@ var (
 
 // twos are the ops of two, by their numbers.
 var twos = strings.Fields("-> => or xor and = <> < <= > >= + - * div mod")
-
-// kindOf is the type of a word.
-func kindOf(t *testing.T, s string) int {
-	t.Helper()
-	kind := slices.Index([]string{"int", "bool"}, s)
-	if kind < 0 {
-		t.Fatalf("%q is no type", s)
-	}
-	return kind
-}
-
-// file is that of a text, whose lines are diagrams, as here:
-//
-//	name in:int c:bool > out:int=#0 d:bool=#2.1 | + in #1 | delay int #0 | @other c
-//
-// A source is an in-port's name, or a block's number and that of a result. A
-// block is a number, true, false, `neg`, `not`, an op of two, `delay` and a
-// type, `start`, `if`, or @ and a diagram's name; and then its sources.
-func file(t *testing.T, text string) diag.File {
-	t.Helper()
-	var f diag.File
-	var lines []string
-	for _, line := range strings.Split(text, "\n") {
-		if line = strings.TrimSpace(line); line != "" {
-			lines = append(lines, line)
-			f.Diagrams = append(f.Diagrams, diag.Diagram{Name: strings.Fields(line)[0]})
-		}
-	}
-	for i, line := range lines {
-		parts := strings.Split(line, "|")
-		d := &f.Diagrams[i]
-		in, out, _ := strings.Cut(" "+parts[0], " > ")
-		for _, word := range strings.Fields(in)[1:] {
-			d.Ins = append(d.Ins, port(t, word))
-		}
-		for _, word := range strings.Fields(out) {
-			p, from, _ := strings.Cut(word, "=")
-			d.Outs = append(d.Outs, diag.Out{Port: port(t, p), From: source(t, *d, from)})
-		}
-		for _, part := range parts[1:] {
-			d.Blocks = append(d.Blocks, block(t, f, *d, strings.Fields(part)))
-		}
-	}
-	return f
-}
-
-func port(t *testing.T, s string) diag.Port {
-	t.Helper()
-	name, kind, _ := strings.Cut(s, ":")
-	return diag.Port{Name: name, Type: kindOf(t, kind)}
-}
-
-func source(t *testing.T, d diag.Diagram, s string) diag.Source {
-	t.Helper()
-	if at, is := strings.CutPrefix(s, "#"); is {
-		block, port, _ := strings.Cut(at, ".")
-		b, _ := strconv.Atoi(block)
-		p, _ := strconv.Atoi(port)
-		return diag.Source{Block: b, Port: p}
-	}
-	i := slices.IndexFunc(d.Ins, func(p diag.Port) bool { return p.Name == s })
-	if i < 0 {
-		t.Fatalf("%q is no source", s)
-	}
-	return diag.Source{Block: -1, Port: i}
-}
-
-func block(t *testing.T, f diag.File, d diag.Diagram, words []string) diag.Block {
-	t.Helper()
-	b, from := head(t, f, words)
-	for _, s := range from {
-		b.From = append(b.From, source(t, d, s))
-	}
-	return b
-}
-
-// head is a block without sources, and these as words.
-func head(t *testing.T, f diag.File, words []string) (diag.Block, []string) {
-	t.Helper()
-	word, from := words[0], words[1:]
-	if n, e := strconv.ParseInt(word, 10, 64); e == nil {
-		return diag.Block{N: n}, from
-	}
-	if name, is := strings.CutPrefix(word, "@"); is {
-		sub := slices.IndexFunc(f.Diagrams, func(d diag.Diagram) bool { return d.Name == name })
-		return diag.Block{Kind: diag.Sub, Sub: sub}, from
-	}
-	switch word {
-	case "false", "true":
-		return diag.Block{Kind: diag.Bool, N: int64(len("false") - len(word))}, from
-	case "neg", "not":
-		return diag.Block{Kind: diag.Un, Op: slices.Index([]string{"neg", "not"}, word)}, from
-	case "delay":
-		return diag.Block{Kind: diag.Delay, Op: kindOf(t, from[0])}, from[1:]
-	case "start":
-		return diag.Block{Kind: diag.Start}, from
-	case "if":
-		return diag.Block{Kind: diag.Choice}, from
-	}
-	return diag.Block{Kind: diag.Bin, Op: slices.Index(twos, word)}, from
-}
 
 // answers tells whether of a file that error is answered, and of all others
 // its types.
@@ -147,7 +46,7 @@ func (a asked) holds(t *testing.T) {
 	t.Helper()
 	const beside = "\nbeside a:int > b:int=a\n"
 	for _, text := range []string{a.text, beside + a.text, a.text + beside} {
-		f := file(t, text)
+		f := sketch.File(text)
 		if !f.Right() {
 			t.Errorf("%s: not right", text)
 		}
@@ -194,7 +93,7 @@ func TestNames(t *testing.T) {
 		a.holds(t)
 	}
 	for i := range 2 {
-		f := file(t, "f a:int > b:int=a \n g a:int > b:int=a")
+		f := sketch.File("f a:int > b:int=a \n g a:int > b:int=a")
 		f.Diagrams[i].Name = ""
 		answers(t, "a diagram without a name", f, api.ErrName)
 	}
@@ -259,9 +158,9 @@ func TestCircles(t *testing.T) {
 			blocks = append(blocks, "| neg #"+strconv.Itoa((i+1)%many))
 		}
 		circle := strings.Join(blocks, " ")
-		answers(t, "a great circle", file(t, "f a:int > b:int=a "+circle), api.ErrCycle)
+		answers(t, "a great circle", sketch.File("f a:int > b:int=a "+circle), api.ErrCycle)
 		cut := strings.Replace(circle, "neg", "delay int", 1)
-		answers(t, "a great circle with a delay", file(t, "f a:int > b:int=a "+cut), api.OK)
+		answers(t, "a great circle with a delay", sketch.File("f a:int > b:int=a "+cut), api.OK)
 	}
 }
 

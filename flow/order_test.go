@@ -8,6 +8,7 @@ import (
 
 	"shuttlecock/api"
 	"shuttlecock/diag"
+	"shuttlecock/sketch"
 )
 
 // ports are so many ints, of names of their own that begin with that.
@@ -138,7 +139,7 @@ var faults = []struct {
 
 // base is a sound file.
 func base(t *testing.T) diag.File {
-	return file(t, `
+	return sketch.File(`
 f a:int c:bool x:int > b:int=#3 | 5 | @g a | @g #0 | + a #0 | neg #3 | neg a | delay int a
 g a:int > b:int=#0 | neg a
 h a:int > b:int=#0 | @g a

@@ -10,6 +10,7 @@ import (
 	"shuttlecock/api"
 	"shuttlecock/diag"
 	"shuttlecock/flow"
+	"shuttlecock/sketch"
 )
 
 // TestWhateverComes holds what is answered of any files against the second
@@ -120,7 +121,7 @@ func there(f diag.File, d diag.Diagram, s diag.Source) bool {
 
 // TestAnswersShareNothing changes answers, and asks again.
 func TestAnswersShareNothing(t *testing.T) {
-	f := file(t, "f a:int > b:int=#0 | neg #1 | neg a | @g \n g > b:int=#0 | 1")
+	f := sketch.File("f a:int > b:int=#0 | neg #1 | neg a | @g \n g > b:int=#0 | 1")
 	x, _ := flow.Check(f)
 	for range 2 {
 		l, m := x.Order(0), x.Diagrams()
@@ -174,7 +175,7 @@ func TestNilAndEmpty(t *testing.T) {
 		}
 	}
 	const text = "f > b:int=#0 | 1 | true | @f2 \n f2 > b:int=#0 | 1"
-	f, o := file(t, text), file(t, text)
+	f, o := sketch.File(text), sketch.File(text)
 	for i := range o.Diagrams {
 		d := &o.Diagrams[i]
 		d.Ins = []diag.Port{}

@@ -10,12 +10,13 @@ import (
 	"shuttlecock/api"
 	"shuttlecock/diag"
 	"shuttlecock/flow"
+	"shuttlecock/sketch"
 )
 
 // types are those of a text that is sound.
 func types(t *testing.T, text string) *flow.Types {
 	t.Helper()
-	x, e := flow.Check(file(t, text))
+	x, e := flow.Check(sketch.File(text))
 	if e != api.OK {
 		t.Fatalf("P11.1: %.300s: %d", text, e)
 	}
@@ -115,7 +116,7 @@ func having(t *testing.T, all ...[]int) diag.File {
 		}
 		text += "\n"
 	}
-	return file(t, text)
+	return sketch.File(text)
 }
 
 func TestDiagrams(t *testing.T) {

@@ -5,6 +5,7 @@ import (
 	"testing"
 
 	"shuttlecock/api"
+	"shuttlecock/sketch"
 )
 
 // takes are, by letters, which sources a block may have, and what it is then.
@@ -71,7 +72,7 @@ func TestEachBlock(t *testing.T) {
 						text += " " + by[letter]
 					}
 					text = "f a:int c:bool > out:" + name(is) + "=#0 | " + text + rest + others
-					answers(t, text, file(t, text), want)
+					answers(t, text, sketch.File(text), want)
 				}
 			}
 		}

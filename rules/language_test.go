@@ -42,13 +42,13 @@ type source struct {
 	file *ast.File
 }
 
-// sources are the Go files, but for tests, of the layers and of all packages
-// of the project that these import: whatever else is laid beside them is not
-// the program's.
+// sources are the Go files, but for tests, of the layers, of what their tests
+// share, and of all packages of the project that these import: whatever else is
+// laid beside them is not the program's.
 func sources(t *testing.T) []source {
 	t.Helper()
 	var all []source
-	folders := strings.Fields("api wire strtab ast lex parse print check cause sem diag flow run bdf grid lower extract inter bench")
+	folders := strings.Fields("api wire strtab ast lex parse print check cause sem diag flow run bdf grid lower extract inter bench sketch")
 	for i := 0; i < len(folders); i++ {
 		for _, s := range folder(t, folders[i]) {
 			all = append(all, s)
