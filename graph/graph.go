@@ -5,8 +5,8 @@
 package graph
 
 import (
+	"container/heap"
 	"math"
-	"slices"
 )
 
 // Order is the numbers, each behind all those on which it hangs; of those
@@ -15,25 +15,23 @@ import (
 func Order(on [][]int) ([]int, bool) {
 	lacks := make([]int, len(on)) // how many it hangs on that have not come
 	behind := make([][]int, len(on))
-	var next []int // those that might come next, rising
+	next := &rising{} // those that might come next
 	for i, all := range on {
 		lacks[i] = len(all)
 		for _, j := range all {
 			behind[j] = append(behind[j], i)
 		}
 		if len(all) == 0 {
-			next = append(next, i)
+			heap.Push(next, i)
 		}
 	}
 	order := make([]int, 0, len(on))
-	for len(next) > 0 {
-		i := next[0]
-		next = next[1:]
+	for next.Len() > 0 {
+		i := heap.Pop(next).(int)
 		order = append(order, i)
 		for _, j := range behind[i] {
 			if lacks[j]--; lacks[j] == 0 {
-				at, _ := slices.BinarySearch(next, j)
-				next = slices.Insert(next, at, j)
+				heap.Push(next, j)
 			}
 		}
 	}

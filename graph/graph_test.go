@@ -160,3 +160,18 @@ func TestMany(t *testing.T) {
 		t.Error("the last one hangs on the first")
 	}
 }
+
+// TestGreat asks of very many things, of which one half hangs on the other,
+// each on one: whatever comes next is the least of all that wait.
+func TestGreat(t *testing.T) {
+	const half = 1 << 19
+	on := make([][]int, 2*half)
+	want := make([]int, 0, 2*half)
+	for i := range half {
+		on[i] = []int{half + i}
+		want = append(want, half+i, i)
+	}
+	if got, is := graph.Order(on); !is || !slices.Equal(got, want) {
+		t.Error("no order, or another one")
+	}
+}

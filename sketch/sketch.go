@@ -1,6 +1,6 @@
-// Package sketch makes files of diagrams of short texts, and any sound ones of
-// what is thrown. It is for the tests of the layers that have to do with
-// diagrams: no layer calls it.
+// Package sketch makes files of diagrams of short texts, and any sound, or just
+// right, ones of what is thrown. It is for the tests of the layers that have to
+// do with diagrams: no layer calls it.
 package sketch
 
 import (

@@ -131,3 +131,34 @@ func TestAny(t *testing.T) {
 		t.Errorf("only in %d a diagram behind it is the first one's block", nested)
 	}
 }
+
+// TestLoose asks whether any loose files are right, with blocks of each kind,
+// and with and without circles.
+func TestLoose(t *testing.T) {
+	kinds, sound := map[int]int{}, 0
+	for seed := range uint64(3000) {
+		f := sketch.Loose(rand.New(rand.NewPCG(seed, 0)))
+		if !f.Right() {
+			t.Fatalf("seed %d: not right: %+v", seed, f)
+		}
+		if again := sketch.Loose(rand.New(rand.NewPCG(seed, 0))); !reflect.DeepEqual(again, f) {
+			t.Fatalf("seed %d: made twice, and not likewise", seed)
+		}
+		if _, e := flow.Check(f); e == api.OK {
+			sound++
+		}
+		for _, d := range f.Diagrams {
+			for _, b := range d.Blocks {
+				kinds[b.Kind]++
+			}
+		}
+	}
+	for kind := range diag.Sub + 1 {
+		if kinds[kind] < 1000 {
+			t.Errorf("only %d of the kind %d", kinds[kind], kind)
+		}
+	}
+	if sound > 1000 {
+		t.Errorf("%d of 3000 are sound", sound)
+	}
+}
